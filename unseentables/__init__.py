@@ -1,0 +1,1 @@
+"""Unseentables: a table engine whose touches tell nothing of the tables."""
