@@ -52,5 +52,15 @@ def place_of_twice(items):
     return None
 
 
+def place_at(columns, name):
+    """The place of the column of this name."""
+    return [column[0] for column in columns].index(name)
+
+
+def kind_at(columns, name):
+    """The kind of the column of this name."""
+    return columns[place_at(columns, name)][1]
+
+
 def _is_column(value):
     return is_tuple(value, 2, 2) and is_name(value[0]) and value[1] in KINDS
