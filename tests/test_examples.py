@@ -44,4 +44,5 @@ class Examples(Case):
     def test_all_examples_are_read(self):
         found = read_examples(EXAMPLES.read_text(encoding="utf-8"))
         self.assertEqual(sorted({point for point, _, _ in found}),
-                         ["[A6]", "[A7]", "[A8]", "[B2]", "[B3]", "[B4]", "[C4]", "[C5]", "[D2]", "[D3]"])
+                         ["[A6]", "[A7]", "[A8]", "[B2]", "[B3]", "[B4]", "[C4]", "[C5]", "[D2]", "[D3]", "[E2]", "[E3]",
+                          "[E4]", "[E5]", "[F2]", "[F3]"])

@@ -1,5 +1,7 @@
 """How any value is asked for its form, without ever raising."""
 
+FIGURES = "0123456789"
+
 
 def is_integer(value):
     """Whether value is an int that is not a bool."""
@@ -28,3 +30,11 @@ def word_of(value):
     if isinstance(value, tuple) and len(value) > 0 and isinstance(value[0], str):
         return value[0]
     return None
+
+
+def integer_of(text, most):
+    """The integer that text is, if it is one in decimal with at most so many figures; None if it is surely none."""
+    figures = text[1:] if text[:1] == "-" else text
+    if not is_made_of(figures, FIGURES, 1, most):
+        return None
+    return int(text)

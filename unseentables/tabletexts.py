@@ -2,9 +2,8 @@
 
 from unseentables.bounds import MAX_ROOM
 from unseentables.errors import BadText
-from unseentables.forms import is_made_of
+from unseentables.forms import integer_of
 from unseentables.tables import table_error
-from unseentables.words import FIGURES
 
 # MAX_NUMBER has this many figures; longer rows of figures are no numbers, and are not reckoned with.
 MAX_NUMBER_FIGURES = 13
@@ -67,10 +66,7 @@ def _loosely_value(piece):
     """The value that piece is the text of, if it is that of one; None if it is surely none."""
     if len(piece) >= 2 and piece[0] == "'" and piece[-1] == "'":
         return piece[1:-1]
-    figures = piece[1:] if piece[:1] == "-" else piece
-    if not is_made_of(figures, FIGURES, 1, MAX_NUMBER_FIGURES):
-        return None
-    return int(piece)
+    return integer_of(piece, MAX_NUMBER_FIGURES)
 
 
 def _grid_line(columns, widths, words):

@@ -11,7 +11,6 @@ KEYWORDS = (
 )
 KINDS = ("number", "text")
 LETTERS = "abcdefghijklmnopqrstuvwxyz"
-FIGURES = "0123456789"
 TEXT_SIGNS = "abcdefghijklmnopqrstuvwxyz0123456789 "
 MAX_LETTERS = 8
 
