@@ -40,6 +40,10 @@ class Case(unittest.TestCase):
         self.assertEqual(strict(arguments), before)
         return result
 
+    def keeps(self, record, other):
+        """record keeps other: it begins with the same words, and has 0 in all further fields."""
+        self.told(record, other + (0,) * (len(record) - len(other)))
+
     def refuses(self, error, fields, function, arguments):
         """function raises just this error with these fields, by place and by name, twice."""
         names = list(inspect.signature(function).parameters)

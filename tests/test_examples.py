@@ -45,4 +45,5 @@ class Examples(Case):
         found = read_examples(EXAMPLES.read_text(encoding="utf-8"))
         self.assertEqual(sorted({point for point, _, _ in found}),
                          ["[A6]", "[A7]", "[A8]", "[B2]", "[B3]", "[B4]", "[C4]", "[C5]", "[D2]", "[D3]", "[E2]", "[E3]",
-                          "[E4]", "[E5]", "[F2]", "[F3]"])
+                          "[E4]", "[E5]", "[F2]", "[F3]", "[F4]", "[F5]", "[G2]", "[G3]", "[G4]", "[H2]", "[H3]", "[H4]",
+                          "[I2]", "[I3]"])

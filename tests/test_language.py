@@ -31,6 +31,15 @@ BARRED_NAMES = set(
     "register mro elements open input law version_info with_traceback add_note attrgetter breakpoint builtins "
     "compile copyright credits delattr dir eval exec exit gc globals help id importlib license locals methodcaller "
     "os quit vars sys _cold _tuplegetter _outside _record _written_out _member_names".split())
+BARRED_BEGINNINGS = re.compile(
+    r"^(_wall|_pe_|_dcw_|_enum_|_cm_|_twin_re_|_lay_|_law_|_stub_|_sre|_WallAttr|law_|__|"
+    r"(_cold|_tuplegetter|_outside|_record|_written_out|_member_names)[0-9_]*$)")
+# What goes over something once, and what may go over it: these builtins, loops and comprehensions.
+ITERATORS = ("range", "zip", "enumerate", "reversed")
+GOING_OVER = ("list", "tuple", "dict", "sorted", "sum", "any", "all", "enumerate", "zip", "min", "max")
+BARRED_ATTRIBUTES = set(
+    "items keys values pop update append clear extend insert remove reverse setdefault sort args encode decode hex "
+    "fromhex format format_map mro".split())
 BARRED_NODES = (
     ast.Import, ast.Global, ast.AsyncFunctionDef, ast.Await, ast.AsyncFor, ast.AsyncWith, ast.Div, ast.MatMult,
 )
@@ -125,6 +134,53 @@ class Language(unittest.TestCase):
                     self.assertNotIn(name, barred)
                     self.assertRegex(name, r"^_?[A-Za-z][A-Za-z0-9_]*$")
 
+    def test_beginnings_of_names(self):
+        for _, tree in self.each_file():
+            methods = [node.name for node in functions_of(tree) if re.match(r"^__[a-z]+__$", node.name)]
+            self.assertLessEqual(set(methods), {"__init__"})
+            for name in bound_names(tree):
+                if name not in methods:
+                    self.assertIsNone(BARRED_BEGINNINGS.search(name), name)
+
+    def test_attributes(self):
+        for _, tree in self.each_file():
+            for node in ast.walk(tree):
+                if isinstance(node, ast.Attribute) and isinstance(node.ctx, ast.Store):
+                    self.assertNotIn(node.attr, BARRED_ATTRIBUTES)
+
+    def test_what_goes_over_something_does_so_at_once(self):
+        for _, tree in self.each_file():
+            allowed = set()
+            for node in ast.walk(tree):
+                if isinstance(node, (ast.For, ast.comprehension)):
+                    allowed.add(node.iter)
+                elif isinstance(node, ast.Compare):
+                    allowed.update(node.comparators)
+                elif isinstance(node, ast.Call) and isinstance(node.func, ast.Name) and node.func.id in GOING_OVER:
+                    allowed.update(node.args[:1] if node.func.id != "zip" else node.args)
+                elif isinstance(node, ast.Call) and isinstance(node.func, ast.Name) and node.func.id == "reversed":
+                    allowed.update([item for item in node.args if isinstance(item, ast.Call)
+                                    and isinstance(item.func, ast.Name) and item.func.id == "range"])
+            for node in ast.walk(tree):
+                if isinstance(node, ast.Call) and isinstance(node.func, ast.Name) and node.func.id in ITERATORS:
+                    self.assertIn(node, allowed, ast.unparse(node))
+
+    def test_stars_stand_before_plain_things(self):
+        for _, tree in self.each_file():
+            for node in ast.walk(tree):
+                if isinstance(node, ast.Call):
+                    starred = [item.value for item in node.args if isinstance(item, ast.Starred)]
+                    for item in starred:
+                        self.assertIsInstance(item, (ast.Name, ast.Attribute))
+                    self.assertEqual([item for item in node.keywords if item.arg is None], [])
+
+    def test_exponents(self):
+        for _, tree in self.each_file():
+            for node in ast.walk(tree):
+                if isinstance(node, ast.BinOp) and isinstance(node.op, ast.Pow):
+                    self.assertIsInstance(node.right, ast.Constant)
+                    self.assertTrue(0 <= node.right.value <= 64)
+
     def test_builtins(self):
         for _, tree in self.each_file():
             for node in ast.walk(tree):
@@ -132,10 +188,15 @@ class Language(unittest.TestCase):
                     self.assertIn(node.id, BUILTINS)
 
     def test_methods(self):
+        own = set()
+        for path in FILES:
+            for node in ast.walk(parsed(path)):
+                if isinstance(node, ast.ClassDef):
+                    own.update([item.name for item in node.body if isinstance(item, ast.FunctionDef)])
         for _, tree in self.each_file():
             for node in ast.walk(tree):
                 if isinstance(node, ast.Call) and isinstance(node.func, ast.Attribute):
-                    self.assertIn(node.func.attr, METHODS | {"__init__"})
+                    self.assertIn(node.func.attr, METHODS | own)
 
     def test_barred_words(self):
         for _, tree in self.each_file():
