@@ -4,9 +4,7 @@ from unseentables.bounds import MAX_ROOM
 from unseentables.errors import BadText
 from unseentables.forms import integer_of
 from unseentables.tables import table_error
-
-# MAX_NUMBER has this many figures; longer rows of figures are no numbers, and are not reckoned with.
-MAX_NUMBER_FIGURES = 13
+from unseentables.words import MAX_NUMBER_FIGURES
 
 
 def table_text(table):

@@ -13,6 +13,8 @@ KINDS = ("number", "text")
 LETTERS = "abcdefghijklmnopqrstuvwxyz"
 TEXT_SIGNS = "abcdefghijklmnopqrstuvwxyz0123456789 "
 MAX_LETTERS = 8
+# MAX_NUMBER has this many figures; longer rows of figures are no numbers, and are not reckoned with.
+MAX_NUMBER_FIGURES = 13
 
 
 def is_name(value):
