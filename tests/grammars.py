@@ -1,6 +1,9 @@
 """The lines that tell the pieces of expressions, questions and statements, asked and drawn without the package."""
 
+import random
 import re
+
+from unseentables.lexing import pieces
 
 LINES = """
 expr = both { "or" both }
@@ -104,21 +107,21 @@ def closed(items, behind):
     return found
 
 
-def first_wrong(start, pieces):
+def first_wrong(start, text_pieces):
     """The place of the first piece with which no start can go on; how many there are, if all can begin one; or None."""
     sets = []
     items = [(start, row, 0, 0) for row in RULES[start]]
-    for place in range(len(pieces) + 1):
+    for place in range(len(text_pieces) + 1):
         sets.append(closed(items, sets))
-        if place == len(pieces):
+        if place == len(text_pieces):
             break
         items = [(word, row, point + 1, begin) for word, row, point, begin in sets[-1]
-                 if point < len(row) and row[point] not in RULES and fits(row[point], pieces[place])]
+                 if point < len(row) and row[point] not in RULES and fits(row[point], text_pieces[place])]
         if not items:
             return place
     if [1 for word, row, point, begin in sets[-1] if word == start and point == len(row) and begin == 0]:
         return None
-    return len(pieces)
+    return len(text_pieces)
 
 
 def heights():
@@ -170,3 +173,17 @@ def spoilt(chance, texts):
         other = chance.randrange(len(texts) + 1)
         return texts[:place] + texts[other:]
     return texts[:place] + texts[:place][-1:] + texts[place:]
+
+
+def drawn_texts(seed, word, deeps, rights, wrongs):
+    """Pairs of a text and of the place of its first wrong piece, None for a right one; so many of both at least."""
+    chance = random.Random(seed)
+    while rights > 0 or wrongs > 0:
+        texts = draw(chance, word, chance.choice(deeps))
+        if len(texts) > 35:
+            continue
+        text = " ".join(spoilt(chance, texts) if chance.random() < 0.8 else texts)
+        place = first_wrong(word, [piece[:2] for piece in pieces(text)])
+        rights -= place is None
+        wrongs -= place is not None
+        yield text, place

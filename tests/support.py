@@ -5,7 +5,7 @@ import inspect
 import random
 import unittest
 
-from unseentables.errors import UnseenError
+from unseentables.errors import Over, UnseenError
 
 
 def strict(value):
@@ -39,6 +39,13 @@ class Case(unittest.TestCase):
         self.told(result, kept)
         self.assertEqual(strict(arguments), before)
         return result
+
+    def outcome(self, function, *arguments):
+        """What function returns, or "over"."""
+        try:
+            return function(*arguments)
+        except Over:
+            return "over"
 
     def keeps(self, record, other):
         """record keeps other: it begins with the same words, and has 0 in all further fields."""

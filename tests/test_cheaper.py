@@ -174,13 +174,7 @@ class Cheaper(Case):
         chance = random.Random(seed)
         for _ in range(6):
             tables = random_tables(chance, catalog)
-            self.told(self.outcome(catalog, tables, other), self.outcome(catalog, tables, plan))
-
-    def outcome(self, catalog, tables, plan):
-        try:
-            return meaning(catalog, tables, plan)
-        except Over:
-            return "over"
+            self.told(self.outcome(meaning, catalog, tables, other), self.outcome(meaning, catalog, tables, plan))
 
     def test_two_wheres(self):
         self.becomes(("where", OLD, ("where", YOUNG, BASE)), ("where", ("and", YOUNG, OLD), BASE))

@@ -6,7 +6,6 @@ from makers import random_plan, random_tables
 from programmakers import random_memory, random_program
 from support import Case
 from unseentables.compiling import answered, compiled, loaded
-from unseentables.errors import Over
 from unseentables.lean import lean, reads_of
 from unseentables.meaning import meaning
 from unseentables.programs import program_error, touches
@@ -169,20 +168,10 @@ class Lean(Case):
             fewer += len(found[2]) < len(program[2])
             for _ in range(4):
                 tables = random_tables(chance, SHOP)
-                self.told(self.outcome((found, starts, answer, over), tables), self.plainly(plan, tables))
+                task = (found, starts, answer, over)
+                self.told(self.outcome(answered, task, run(found, loaded(SHOP, tables, task))),
+                          self.outcome(meaning, SHOP, tables, plan))
         self.assertGreater(fewer, 20)
-
-    def outcome(self, task, tables):
-        try:
-            return answered(task, run(task[0], loaded(SHOP, tables, task)))
-        except Over:
-            return "over"
-
-    def plainly(self, plan, tables):
-        try:
-            return meaning(SHOP, tables, plan)
-        except Over:
-            return "over"
 
     def test_a_program_of_many_steps(self):
         program = sort_program(64, ((1, "up"),))

@@ -2,7 +2,7 @@
 
 import random
 
-from grammars import draw, first_wrong, spoilt
+from grammars import drawn_texts
 from makers import random_plan
 from support import Case, any_values
 from unseentables.errors import BadQuestion, TooMany
@@ -197,24 +197,14 @@ class Expressions(Case):
             self.refuses(BadQuestion, {"error": ("sign", 0)}, read_expression, (value,))
 
     def test_drawn_texts(self):
-        chance = random.Random(101)
-        right = wrong = 0
-        while right < 60 or wrong < 200:
-            texts = draw(chance, "expr", chance.randrange(3, 14))
-            if len(texts) > 30:
-                continue
-            texts = spoilt(chance, texts) if chance.random() < 0.8 else texts
-            text = " ".join(texts)
-            place = first_wrong("expr", [piece[:2] for piece in pieces(text)])
+        for text, place in drawn_texts(101, "expr", range(3, 14), 60, 200):
             if place is not None:
-                wrong += 1
                 self.stops(text, place)
-            else:
-                right += 1
-                try:
-                    read_expression(text)
-                except TooMany as error:
-                    self.told(error.limit, 40)
+                continue
+            try:
+                read_expression(text)
+            except TooMany as error:
+                self.told(error.limit, 40)
 
     def test_any_value(self):
         for value in any_values(102, ("a and 5", "'x' = y", "if a then b else c"), 300):
@@ -495,24 +485,14 @@ class Questions(Case):
                     self.reads(told, expected)
 
     def test_drawn_texts(self):
-        chance = random.Random(104)
-        right = wrong = 0
-        while right < 60 or wrong < 250:
-            texts = draw(chance, "question", chance.randrange(5, 16))
-            if len(texts) > 35:
-                continue
-            texts = spoilt(chance, texts) if chance.random() < 0.8 else texts
-            text = " ".join(texts)
-            place = first_wrong("question", [piece[:2] for piece in pieces(text)])
+        for text, place in drawn_texts(104, "question", range(5, 16), 60, 250):
             if place is not None:
-                wrong += 1
                 self.stops(text, place)
-            else:
-                right += 1
-                try:
-                    self.told(plan_error(HOUSE, read_question(HOUSE, text)), None)
-                except BadQuestion as error:
-                    self.told(error.error[0], "plan")
+                continue
+            try:
+                self.told(plan_error(HOUSE, read_question(HOUSE, text)), None)
+            except BadQuestion as error:
+                self.told(error.error[0], "plan")
 
     def test_any_value(self):
         for value in any_values(105, ("select * from pets", "(select age from pets)"), 300):

@@ -1,11 +1,9 @@
 """Plans told line by line, and plans that mean the same by fewer steps."""
 
-from unseentables.bounds import MAX_PARTS
 from unseentables.compiling import step_limit
-from unseentables.expressions import inner_parts, put_in
+from unseentables.expressions import has_many_parts, put_in
 from unseentables.plannodes import plans_in
 from unseentables.plans import room_of
-from unseentables.trees import has_more
 
 # For each word the places of those of its plans whose order makes no difference,
 ORDERLESS = {"distinct": (1,), "group": (3,), "less": (1, 2), "meet": (1, 2), "with": (3,), "without": (3,)}
@@ -59,15 +57,11 @@ def _is_twice(plan, word):
     return plan[0] == word and plan[2][0] == word
 
 
-def _is_too_long(expression):
-    return has_more(expression, inner_parts, MAX_PARTS)
-
-
 def _two_wheres(catalog, plan):
     if not _is_twice(plan, "where"):
         return None
     both = ("and", plan[2][1], plan[1])
-    return None if _is_too_long(both) else ("where", both, plan[2][2])
+    return None if has_many_parts(both) else ("where", both, plan[2][2])
 
 
 def _two_limits(catalog, plan):
@@ -86,7 +80,7 @@ def _two_gives(catalog, plan):
     if not _is_twice(plan, "give"):
         return None
     items = tuple([(name, put_in(expression, plan[2][1])) for name, expression in plan[1]])
-    if any([_is_too_long(expression) for _, expression in items]):
+    if any([has_many_parts(expression) for _, expression in items]):
         return None
     return "give", items, plan[2][2]
 

@@ -2,10 +2,10 @@
 
 from unseentables.digits import digits_of
 from unseentables.errors import Over
-from unseentables.nodeareas import node_area
+from unseentables.nodeareas import plan_area
 from unseentables.planmakings import PlanMaking
 from unseentables.plannodes import plans_in
-from unseentables.plans import columns_of, room_of
+from unseentables.plans import room_of
 from unseentables.running import run
 
 
@@ -16,7 +16,7 @@ def compiled(catalog, plan):
         starts.append(held)
         held += entry[2]
     making = PlanMaking(catalog, tuple(starts), held)
-    answer = _area_of(making, plan)
+    answer = plan_area(making, plan)
     return making.program(), making.starts, answer, making.over
 
 
@@ -66,12 +66,3 @@ def _sizes(catalog, plan):
     for part in below:
         found.extend(_sizes(catalog, part))
     return found
-
-
-def _area_of(making, plan):
-    """The area of what comes of plan, behind the steps that are added to making."""
-    below, columns = [], []
-    for part in plans_in(plan):
-        below.append(_area_of(making, part))
-        columns.append(columns_of(making.catalog, part))
-    return node_area(making, plan, columns, below)

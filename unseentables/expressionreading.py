@@ -2,9 +2,8 @@
 
 from unseentables.bounds import MAX_PARTS
 from unseentables.errors import TooMany
-from unseentables.expressions import inner_parts
+from unseentables.expressions import has_many_parts
 from unseentables.readings import number_of
-from unseentables.trees import has_more
 
 LINKS = {"+": "add", "-": "sub"}
 MARKS = ("=", "<", ">", "<=", ">=", "<>")
@@ -20,7 +19,7 @@ def expression_of(reading):
 
 def refuse_many_parts(expression):
     """TooMany if expression has more parts than one may have."""
-    if has_more(expression, inner_parts, MAX_PARTS):
+    if has_many_parts(expression):
         raise TooMany(MAX_PARTS)
 
 

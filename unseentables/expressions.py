@@ -18,7 +18,7 @@ COMPARED = ("less", "same")
 
 def expression_error(columns, value):
     """None if value is an expression of columns; otherwise what is wrong first, and its way."""
-    if has_more(value, inner_parts, MAX_PARTS):
+    if has_many_parts(value):
         return ("many", ())
     return _judged(columns, value, ())[0]
 
@@ -59,6 +59,11 @@ def names_in(expression):
 def put_in(expression, items):
     """expression with the expression of each of items in the place of the column of its name."""
     return _with_put(expression, dict(items))
+
+
+def has_many_parts(value):
+    """Whether value has more parts than an expression may have."""
+    return has_more(value, inner_parts, MAX_PARTS)
 
 
 def inner_parts(value):

@@ -34,10 +34,14 @@ class Making:
         place = self.places.setdefault(rule, len(self.places))
         self.steps.append((one, other, place))
 
+    def beside(self, cells, other, rule):
+        """A step on each of cells, one behind another, and the cell other."""
+        for cell in cells:
+            self.step(cell, other, rule)
+
     def each(self, cells, rule):
         """A step on each of cells, one behind another, and the carrier."""
-        for cell in cells:
-            self.step(cell, self.carrier, rule)
+        self.beside(cells, self.carrier, rule)
 
     def walk(self, cells, rule):
         """The same with a carrier that begins as (0,)."""

@@ -6,6 +6,8 @@ An area is a tuple of cells. Those of its records that are here, whose field 0 i
 from unseentables.joinareas import join_area
 from unseentables.makings import GONE, HERE, KEPT, NOUGHT, ONE, TWO, UNIT, Lets, field_atoms
 from unseentables.pieces import count_area, thin_area, total_area
+from unseentables.plannodes import plans_in
+from unseentables.plans import columns_of
 from unseentables.reckoning import reckoned
 from unseentables.routing import draw_area
 from unseentables.sorting import ascending, sort_here
@@ -13,10 +15,14 @@ from unseentables.tables import place_at
 from unseentables.tiedareas import tied_lefts, unlike_lefts
 
 
-def node_area(making, node, columns, below):
-    """The cells that hold what comes of node; below are the areas of its plans, which have these columns."""
-    make = AREAS[node[0]]
-    return make(making, node, columns, below)
+def plan_area(making, plan):
+    """The cells that hold what comes of plan, behind the steps that are added to making."""
+    below, columns = [], []
+    for part in plans_in(plan):
+        below.append(plan_area(making, part))
+        columns.append(columns_of(making.catalog, part))
+    make = AREAS[plan[0]]
+    return make(making, plan, columns, below)
 
 
 def _table(making, node, columns, below):

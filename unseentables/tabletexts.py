@@ -10,10 +10,7 @@ from unseentables.words import MAX_NUMBER_FIGURES
 def table_text(table):
     """The text of table: a line of its columns, then a line for each row."""
     columns, rows = table
-    lines = [", ".join([name + " " + kind for name, kind in columns])]
-    for row in rows:
-        lines.append(", ".join([_value_text(value) for value in row]))
-    return "\n".join(lines)
+    return "\n".join([columns_text(columns)] + [row_text(row) for row in rows])
 
 
 def read_table(value):
@@ -39,6 +36,16 @@ def grid(columns, rows):
     filled = [_grid_line(columns, widths, line) for line in lines]
     many = "(1 row)" if len(rows) == 1 else f"({len(rows)} rows)"
     return "\n".join(filled + [many])
+
+
+def columns_text(columns):
+    """The columns of a table in one line."""
+    return ", ".join([name + " " + kind for name, kind in columns])
+
+
+def row_text(row):
+    """The values of one row in one line."""
+    return ", ".join([_value_text(value) for value in row])
 
 
 def _value_text(value):
